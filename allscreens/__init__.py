@@ -1,0 +1,1 @@
+"""Allscreens: drawing scripts, and what they do to every picture."""

@@ -1,0 +1,104 @@
+"""Checks some rules of the program's language that are easily overlooked; the numbers are those of the rules."""
+
+import ast
+import builtins
+import pathlib
+import unittest
+
+PACKAGE = pathlib.Path(__file__).resolve().parent.parent / "allscreens"
+
+LIBRARY = {
+    "heapq": {"heappush", "heappop", "heapify", "heapreplace", "heappushpop"},
+    "math": {"gcd", "lcm", "isqrt", "comb", "perm", "factorial"},
+    "itertools": {
+        "product", "combinations", "permutations", "chain", "accumulate", "pairwise", "islice", "zip_longest",
+    },
+    "collections": {"defaultdict", "deque"},
+}
+
+BUILTINS = set("""
+len range enumerate zip min max sum abs sorted reversed int str bool bytes list tuple dict set frozenset isinstance ord
+repr any all divmod pow getattr hasattr setattr iter next map type super property staticmethod classmethod print
+Exception ValueError TypeError KeyError IndexError LookupError ZeroDivisionError ArithmeticError OverflowError
+RuntimeError NotImplementedError AttributeError StopIteration NotImplemented
+""".split())
+
+
+def texts():
+    return {path.name: path.read_text(encoding="utf-8") for path in sorted(PACKAGE.glob("*.py"))}
+
+
+def trees():
+    return {name: ast.parse(text) for name, text in texts().items()}
+
+
+def nodes(*kinds):
+    return [(name, node) for name, tree in trees().items() for node in ast.walk(tree) if isinstance(node, kinds)]
+
+
+def defined(tree):
+    """The names that a file defines itself, at module level."""
+    names = [node.name for node in tree.body if isinstance(node, (ast.FunctionDef, ast.ClassDef))]
+    return names + [node.targets[0].id for node in tree.body if isinstance(node, ast.Assign)]
+
+
+class LanguageTest(unittest.TestCase):
+    def test_l1_the_folder_contains_nothing_else(self):
+        others = [path.name for path in PACKAGE.iterdir() if path.suffix != ".py" and path.name != "__pycache__"]
+        self.assertEqual(others, [])
+        self.assertIn("__init__.py", texts())
+
+    def test_l2_l16_imports(self):
+        for name, node in nodes(ast.Import, ast.ImportFrom):
+            with self.subTest(file=name, line=node.lineno):
+                self.assertIsInstance(node, ast.ImportFrom)
+                self.assertEqual((node.level, [each.asname for each in node.names if each.asname]), (0, []))
+                imported = [each.name for each in node.names]
+                if node.module in LIBRARY:
+                    self.assertLessEqual(set(imported), LIBRARY[node.module])
+                else:
+                    folder, file = node.module.split(".")
+                    self.assertEqual(folder, "allscreens")
+                    self.assertLessEqual(set(imported), set(defined(trees()[file + ".py"])))
+
+    def test_l7_no_floats_and_no_generator_expressions(self):
+        self.assertEqual([(name, node.lineno) for name, node in nodes(ast.GeneratorExp)], [])
+        floats = [node for _, node in nodes(ast.Constant) if isinstance(node.value, (float, complex))]
+        self.assertEqual(floats, [])
+        self.assertEqual([node for _, node in nodes(ast.BinOp) if isinstance(node.op, ast.Div)], [])
+
+    def test_l8_l15_builtins(self):
+        for name, node in nodes(ast.Name):
+            if hasattr(builtins, node.id):
+                with self.subTest(file=name, line=node.lineno):
+                    self.assertIn(node.id, BUILTINS)
+                    self.assertIsInstance(node.ctx, ast.Load)
+
+    def test_l10_sizes(self):
+        for name, text in texts().items():
+            self.assertLessEqual(len(text.splitlines()), 399, name)
+            for line in text.splitlines():
+                self.assertLessEqual(len(line), 120, (name, line))
+        for name, node in nodes(ast.FunctionDef):
+            self.assertLessEqual(node.end_lineno - node.lineno + 1, 40, (name, node.name))
+
+    def test_l14_signs(self):
+        for name, text in texts().items():
+            self.assertEqual([sign for sign in text if sign != "\n" and not " " <= sign <= "~"], [], name)
+
+    def test_l15_one_binding_for_each_name(self):
+        for name, tree in trees().items():
+            imported = [each.name for node in tree.body if isinstance(node, ast.ImportFrom) for each in node.names]
+            names = imported + defined(tree)
+            self.assertEqual(sorted(set(names)), sorted(names), name)
+            top = {node.name for node in tree.body if isinstance(node, ast.ClassDef)} | set(imported)
+            for node in ast.walk(tree):
+                if isinstance(node, ast.arg):
+                    self.assertNotIn(node.arg, top, name)
+                    self.assertFalse(hasattr(builtins, node.arg), (name, node.arg))
+                if isinstance(node, ast.Name) and isinstance(node.ctx, ast.Store):
+                    self.assertNotIn(node.id, top, name)
+
+
+if __name__ == "__main__":
+    unittest.main()
