@@ -19,14 +19,22 @@ def check_rect(value):
         raise InvalidRect(value)
 
 
+def overlap(*rects):
+    """Return the rectangle of the points that all rectangles have, or None if there is no such point.
+
+    The rectangles may be greater than valid ones, as those that frames move or mirror.
+    """
+    left = max([rect[0] for rect in rects])
+    top = max([rect[1] for rect in rects])
+    right = min([rect[0] + rect[2] for rect in rects])
+    bottom = min([rect[1] + rect[3] for rect in rects])
+    if left >= right or top >= bottom:
+        return None
+    return (left, top, right - left, bottom - top)
+
+
 def common(rect, other_rect):
     """Return the rectangle of the points that both rectangles have, or None if there is no such point."""
     check_rect(rect)
     check_rect(other_rect)
-    left = max(rect[0], other_rect[0])
-    top = max(rect[1], other_rect[1])
-    right = min(rect[0] + rect[2], other_rect[0] + other_rect[2])
-    bottom = min(rect[1] + rect[3], other_rect[1] + other_rect[3])
-    if left >= right or top >= bottom:
-        return None
-    return (left, top, right - left, bottom - top)
+    return overlap(rect, other_rect)

@@ -3,7 +3,7 @@
 from allscreens.integers import is_int
 from allscreens.rects import check_rect
 from allscreens.spans import IN_BOTH, IN_EITHER, IN_FIRST_ONLY, bands_of, mixed_bands, rects_of
-from allscreens.stages import check_stage, check_surface, size_of
+from allscreens.stages import check_stage, check_surface, whole
 
 
 class Region:
@@ -19,8 +19,7 @@ class Region:
         """Return the region of the points of the cells of a surface."""
         check_stage(stage)
         check_surface(stage, surface)
-        width, height = size_of(stage, surface)
-        return cls((0, 0, width, height))
+        return cls(whole(stage, surface))
 
     @property
     def rects(self):

@@ -1,6 +1,6 @@
 """Stages: tuples of surfaces (name, width, height)."""
 
-from allscreens.errors import InvalidStage, InvalidSurface
+from allscreens.errors import DifferentStages, InvalidCell, InvalidStage, InvalidSurface
 from allscreens.integers import is_between
 from allscreens.limits import MOST_SIZE, MOST_SURFACES
 
@@ -38,10 +38,14 @@ def check_stage(value):
         raise InvalidStage(value)
 
 
+def has_surface(stage, value):
+    """Tell if the value is the name of a surface of a stage, which is valid."""
+    return isinstance(value, str) and value in [surface[0] for surface in stage]
+
+
 def check_surface(stage, value):
     """Raise InvalidSurface if the value is not the name of a surface of a stage, which is valid."""
-    names = [surface[0] for surface in stage]
-    if not isinstance(value, str) or value not in names:
+    if not has_surface(stage, value):
         raise InvalidSurface(value)
 
 
@@ -49,3 +53,32 @@ def size_of(stage, name):
     """Return the width and the height of the surface with this name, which the stage has."""
     sizes = {surface[0]: surface[1:] for surface in stage}
     return sizes[name]
+
+
+def whole(stage, name):
+    """Return the rectangle of all cells of the surface with this name, which the stage has."""
+    width, height = size_of(stage, name)
+    return (0, 0, width, height)
+
+
+def is_cell(stage, value):
+    """Tell if the value is a cell of a stage, which is valid."""
+    if not isinstance(value, tuple) or len(value) != 3:
+        return False
+    name, x, y = value
+    if not has_surface(stage, name):
+        return False
+    width, height = size_of(stage, name)
+    return is_between(x, 0, width - 1) and is_between(y, 0, height - 1)
+
+
+def check_cell(stage, value):
+    """Raise InvalidCell if the value is not a cell of a stage, which is valid."""
+    if not is_cell(stage, value):
+        raise InvalidCell(value)
+
+
+def check_same_stage(first, second):
+    """Raise DifferentStages if two stages, which are valid, are different."""
+    if first != second:
+        raise DifferentStages()

@@ -99,6 +99,32 @@ class LanguageTest(unittest.TestCase):
                 if isinstance(node, ast.Name) and isinstance(node.ctx, ast.Store):
                     self.assertNotIn(node.id, top, name)
 
+    def test_l5_l18_names_of_decorated_methods(self):
+        decorated, plain, attributes = set(), set(), set()
+        for _, node in nodes(ast.ClassDef):
+            for method in node.body:
+                if isinstance(method, ast.FunctionDef):
+                    (decorated if method.decorator_list else plain).add(method.name)
+        for _, node in nodes(ast.Attribute):
+            if isinstance(node.ctx, ast.Store):
+                attributes.add(node.attr)
+        setters = {
+            method.name for _, node in nodes(ast.ClassDef) for method in node.body
+            if isinstance(method, ast.FunctionDef) for each in method.decorator_list
+            if isinstance(each, ast.Attribute) and each.attr == "setter"
+        }
+        self.assertEqual(decorated & plain, set())
+        self.assertEqual(decorated & attributes - setters, set())
+
+    def test_l20_is(self):
+        for name, node in nodes(ast.Compare):
+            if any(isinstance(each, (ast.Is, ast.IsNot)) for each in node.ops):
+                with self.subTest(file=name, line=node.lineno):
+                    self.assertIsInstance(node.comparators[0], ast.Constant)
+
+    def test_l25_no_sort(self):
+        self.assertEqual([(name, node.lineno) for name, node in nodes(ast.Attribute) if node.attr == "sort"], [])
+
 
 if __name__ == "__main__":
     unittest.main()
