@@ -99,7 +99,7 @@ class Reader:
 
     def __init__(self):
         self.parts_read = []
-        # What was read of the script, and of each part or order in it that is still open, from the outermost one.
+        # What was read of the script, and of each part or order in it that has not ended, from the outermost one.
         self.bodies = [[]]
         self.heads = []
 
@@ -130,11 +130,11 @@ class Reader:
         return frame_of(words)
 
     def may_have_parts(self):
-        """Tell if a part may stand here: nothing is open, and no order of the script was read."""
+        """Tell if a part may stand here: all before has ended, and no order of the script was read."""
         return not self.heads and not self.bodies[0]
 
     def shut(self):
-        """Shut the part or order that was opened last."""
+        """End the part or order that began last."""
         head = self.heads.pop()
         inside = tuple(self.bodies.pop())
         if head[0] == "def":

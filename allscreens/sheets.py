@@ -96,7 +96,7 @@ def turned(sheet, pairs):
 
 
 def without(sheet, unwanted):
-    """Return a sheet without the places of one colour."""
+    """Return a sheet without the places of one colour; all of it if there is None to leave out."""
     return joined_bands([
         (top, bottom, tuple([span for span in spans if span[2] != unwanted]))
         for top, bottom, spans in sheet

@@ -5,9 +5,6 @@ from allscreens.mirrors import Mirror
 from allscreens.rects import overlap
 from allscreens.stages import whole
 
-# A rectangle that has all cells of each surface.
-EVERYWHERE = (0, 0, MOST_SIZE, MOST_SIZE)
-
 
 def placed(orders, parts, mirror, limits):
     """Return the orders that some orders stand for, each as a tuple (order, mirror, limits).
@@ -82,8 +79,10 @@ def strokes_of(stage, orders, parts):
 
     All of these orders stand for at least one order, and together for few enough to be written out.
     """
+    # A rectangle that has all cells of each surface.
+    everywhere = (0, 0, MOST_SIZE, MOST_SIZE)
     found = []
-    for order, mirror, limits in placed(orders, parts, Mirror(0, 0), EVERYWHERE):
+    for order, mirror, limits in placed(orders, parts, Mirror(0, 0), everywhere):
         if order[0] == "copy":
             stroke = cut_copy(stage, order, mirror, limits)
         else:
@@ -101,6 +100,20 @@ def target_of(stroke):
     return (stroke[1], stroke[2])
 
 
+def writes(stroke, cell):
+    """Tell if a stroke writes a cell; with a KEY: if it would, were the KEY no colour of a source."""
+    surface, (left, top, width, height) = target_of(stroke)
+    name, x, y = cell
+    return name == surface and left <= x < left + width and top <= y < top + height
+
+
 def back_of(stroke):
     """Return the map from the cells that a "copy" writes to their sources."""
     return copy_map(stroke[2], target_of(stroke)[1], stroke[6])
+
+
+def source_of(stroke, cell):
+    """Return the source of a cell that a "copy" writes."""
+    _, x, y = cell
+    back = back_of(stroke)
+    return (stroke[1], *back(x, y))

@@ -157,6 +157,17 @@ def some_rect(source, least=-2, most=4, size=5):
         source.randint(least, most), source.randint(least, most), source.randint(0, size), source.randint(0, size))
 
 
+def near_rect(source):
+    """A rectangle that mostly has cells of a small surface; now and then any one."""
+    if source.randrange(6) == 0:
+        return some_rect(source)
+    return (source.randint(-1, 1), source.randint(-1, 1), source.randint(2, 5), source.randint(1, 4))
+
+
+def near_place(source):
+    return source.randint(-2, 4) if source.randrange(6) == 0 else source.randint(-1, 2)
+
+
 def some_pairs(source):
     olds = sorted(source.sample(COLOURS, source.randint(0, 2)))
     return tuple((old, source.choice(COLOURS)) for old in olds)
@@ -166,11 +177,11 @@ def some_order(source, stage, words=("fill", "recolour", "copy"), keys=(None, 0,
     """A plain order, the same for each run of the tests."""
     word, name = source.choice(words), source.choice(stage)[0]
     if word == "fill":
-        return ("fill", name, some_rect(source), source.choice(COLOURS))
+        return ("fill", name, near_rect(source), source.choice(COLOURS))
     if word == "recolour":
-        return ("recolour", name, some_rect(source), some_pairs(source))
+        return ("recolour", name, near_rect(source), some_pairs(source))
     return (
-        "copy", name, some_rect(source), source.choice(stage)[0], source.randint(-2, 4), source.randint(-2, 4),
+        "copy", name, near_rect(source), source.choice(stage)[0], near_place(source), near_place(source),
         source.choice(("none", "across", "down", "both")), source.choice(keys))
 
 
@@ -181,7 +192,7 @@ def framed(source, orders, words=FRAMES):
     """Orders with a frame around them."""
     word = source.choice(words)
     if word == "within":
-        return (word, some_rect(source, -1, 2, 6), orders)
+        return (word, near_rect(source), orders)
     if word == "repeat":
         return (word, source.choice((1, 1, 2)), orders)
     if word == "moved":

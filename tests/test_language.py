@@ -69,7 +69,8 @@ class LanguageTest(unittest.TestCase):
 
     def test_l8_l15_builtins(self):
         for name, node in nodes(ast.Name):
-            if hasattr(builtins, node.id):
+            # Whoever runs an example of the document leaves a value in the builtin _.
+            if hasattr(builtins, node.id) and node.id != "_":
                 with self.subTest(file=name, line=node.lineno):
                     self.assertIn(node.id, BUILTINS)
                     self.assertIsInstance(node.ctx, ast.Load)

@@ -72,8 +72,8 @@ def corners(cell):
 
 def some_patches(source, many, stage=SMALL):
     return tuple(
-        (source.choice(stage)[0], (source.randint(-2, 4), source.randint(-2, 4), source.randint(0, 5),
-                                   source.randint(0, 5)), source.choice((0, 1, 7, TOP)))
+        (source.choice(stage)[0], (source.randint(-1, 3), source.randint(-1, 3), source.choice((0, 1, 1, 1, 2, 2, 5)),
+                                   source.choice((0, 1, 1, 1, 2, 2, 5))), source.choice((0, 1, 7, TOP)))
         for _ in range(many)
     )
 
@@ -132,6 +132,12 @@ class PatchesTest(PictureTest):
         self.check_patches(("a", (0, 0, 4, 1), 1), ("a", (0, 2, 4, 1), 1), ("a", (0, 1, 4, 1), 1))
         self.check_patches(("a", (0, 0, 2, 3), 1), ("a", (2, 0, 2, 3), 2))
 
+    def test_patches_with_a_gap_between(self):
+        self.check_patches(("a", (0, 0, 1, 3), 1), ("a", (2, 0, 1, 3), 1))
+        self.check_patches(("a", (2, 0, 2, 3), 1), ("a", (0, 0, 1, 3), 1), ("a", (1, 1, 1, 1), 7))
+        self.check_patches(("a", (0, 0, 4, 1), 1), ("a", (0, 2, 4, 1), 1))
+        self.check_patches(("c", (0, 0, 1, 1), 1), ("c", (0, 2, 1, 1), 1), ("c", (0, 4, 1, 1), 1))
+
     def test_patches_beyond_the_surface(self):
         self.check_patches(("a", (-2, -2, 4, 3), 1), ("a", (3, 2, 5, 5), 2), ("b", (-5, -5, 10, 10), 3))
         self.check_patches(("a", (4, 0, 1, 1), 1), ("a", (0, 3, 1, 1), 2), ("a", (-1, 0, 1, 1), 3), ("a", (0, -1, 1, 1), 4))
@@ -150,7 +156,7 @@ class PatchesTest(PictureTest):
     def test_many_patches(self):
         source = random.Random(1)
         for many in range(9):
-            for _ in range(25):
+            for _ in range(60):
                 self.check_patches(*some_patches(source, many), ground=source.choice((0, 7)))
 
     def test_by_name(self):
