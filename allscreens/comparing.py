@@ -1,9 +1,10 @@
 """Comparing scripts by what they do to all pictures."""
 
+from allscreens.even import even_lists, first_cell, rects_to_compare
 from allscreens.nodes import Nodes
 from allscreens.scripts import check_script
-from allscreens.stages import check_same_stage
-from allscreens.ways import even_rects, number_at_end
+from allscreens.stages import check_same_stage, whole
+from allscreens.ways import number_at_end
 
 
 def alike(one, other):
@@ -60,12 +61,21 @@ def unlike_cell(stage, strokes, other_strokes):
     """Return a cell to which two tuples of strokes give different reduced forms, None if there is none."""
     nodes = Nodes()
     for surface, _, _ in stage:
-        for rect in even_rects(stage, surface, [strokes, other_strokes]):
-            cell = (surface, rect[0], rect[1])
-            names = {}
-            number = number_at_end(nodes, strokes, cell, names)
-            if number != number_at_end(nodes, other_strokes, cell, names):
+        for rect in rects_to_compare(whole(stage, surface), surface, strokes, other_strokes):
+            cell = unlike_cell_in(nodes, rect, surface, strokes, other_strokes)
+            if cell is not None:
                 return cell
+    return None
+
+
+def unlike_cell_in(nodes, rect, surface, strokes, other_strokes):
+    """Return a cell in a rectangle of a surface to which two tuples of strokes give different forms, or None."""
+    for rects in even_lists(rect, surface, [strokes, other_strokes]):
+        cell = first_cell(surface, rects)
+        names = {}
+        number = number_at_end(nodes, strokes, cell, names)
+        if number != number_at_end(nodes, other_strokes, cell, names):
+            return cell
     return None
 
 

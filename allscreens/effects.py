@@ -1,12 +1,13 @@
 """Effects: what a script does to every picture."""
 
+from allscreens.even import even_lists, first_cell
 from allscreens.nodes import Nodes
 from allscreens.painting import painted
 from allscreens.pictures import check_picture
 from allscreens.regions import Region
 from allscreens.scripts import check_script
-from allscreens.stages import check_cell, check_same_stage, check_surface
-from allscreens.ways import even_rects, number_at_end
+from allscreens.stages import check_cell, check_same_stage, check_surface, whole
+from allscreens.ways import number_at_end
 
 
 class Effect:
@@ -39,11 +40,11 @@ class Effect:
         check_surface(self._stage, surface)
         nodes = Nodes()
         found = {}
-        for rect in even_rects(self._stage, surface, [self._strokes]):
-            number = number_at_end(nodes, self._strokes, (surface, rect[0], rect[1]), {})
+        for rects in even_lists(whole(self._stage, surface), surface, [self._strokes]):
+            number = number_at_end(nodes, self._strokes, first_cell(surface, rects), {})
             form = nodes.form_of(number)
             if form[0] == "colour":
-                found.setdefault(form[1], []).append(rect)
+                found.setdefault(form[1], []).extend(rects)
         return tuple([(colour, region_of_rects(found[colour])) for colour in sorted(found)])
 
     def __repr__(self):

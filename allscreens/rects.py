@@ -19,18 +19,30 @@ def check_rect(value):
         raise InvalidRect(value)
 
 
-def overlap(*rects):
-    """Return the rectangle of the points that all rectangles have, or None if there is no such point.
+def overlap(first, second):
+    """Return the rectangle of the points that both rectangles have, or None if there is no such point.
 
     The rectangles may be greater than valid ones, as those that frames move or mirror.
     """
-    left = max([rect[0] for rect in rects])
-    top = max([rect[1] for rect in rects])
-    right = min([rect[0] + rect[2] for rect in rects])
-    bottom = min([rect[1] + rect[3] for rect in rects])
+    x, y, width, height = first
+    other_x, other_y, other_width, other_height = second
+    left = max(x, other_x)
+    top = max(y, other_y)
+    right = min(x + width, other_x + other_width)
+    bottom = min(y + height, other_y + other_height)
     if left >= right or top >= bottom:
         return None
     return (left, top, right - left, bottom - top)
+
+
+def overlap_of_all(rects):
+    """Return the rectangle of the points that all rectangles have, or None if there is no such point."""
+    found = rects[0]
+    for rect in rects:
+        found = overlap(found, rect)
+        if found is None:
+            return None
+    return found
 
 
 def common(rect, other_rect):

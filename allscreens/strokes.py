@@ -2,7 +2,7 @@
 
 from allscreens.limits import MOST_SIZE
 from allscreens.mirrors import Mirror
-from allscreens.rects import overlap
+from allscreens.rects import overlap, overlap_of_all
 from allscreens.stages import whole
 
 
@@ -57,7 +57,7 @@ def copy_map(source, target, word):
 def cut_order(stage, order, mirror, limits):
     """Return the stroke that comes of a "fill" or a "recolour", None if it writes no cell."""
     word, surface, rect, last = order
-    written = overlap(mirror.image(rect), limits, whole(stage, surface))
+    written = overlap_of_all([mirror.image(rect), limits, whole(stage, surface)])
     return None if written is None else (word, surface, written, last)
 
 
@@ -68,7 +68,7 @@ def cut_copy(stage, order, mirror, limits):
     # Two maps of the same kind around a copy leave its MIRROR as it is.
     back = copy_map(mirror.image(rect), target, word)
     from_source = (~back).image(whole(stage, source))
-    written = overlap(target, limits, whole(stage, surface), from_source)
+    written = overlap_of_all([target, limits, whole(stage, surface), from_source])
     if written is None:
         return None
     return ("copy", source, back.image(written), surface, written[0], written[1], word, key)

@@ -5,7 +5,7 @@ import unittest
 import slow
 import slow_forms
 from allscreens.scripts import Script
-from allscreens.ways import even_rects
+from allscreens.even import even_lists
 from helpers import BOUND, points_of
 
 SMALL = (("a", 4, 3), ("b", 3, 4))
@@ -38,18 +38,24 @@ def told_of(scripts, cell):
     return [told for told, _ in found], meetings([end for _, ends in found for end in ends])
 
 
+def even_rects(stage, name, scripts):
+    width, height = {surface: size for surface, *size in stage}[name]
+    return [rect for rects in even_lists((0, 0, width, height), name, scripts) for rect in rects]
+
+
 class EvenTest(unittest.TestCase):
     def check(self, stage, scripts):
         with self.subTest(scripts=scripts):
             for name, width, height in stage:
-                rects = even_rects(stage, name, scripts)
+                groups = even_lists((0, 0, width, height), name, scripts)
+                rects = [rect for group in groups for rect in group]
                 points = [point for rect in rects for point in points_of(rect)]
                 self.assertEqual(sorted(points), [(x, y) for x in range(width) for y in range(height)])
-                for rect in rects:
-                    self.assertGreater(min(rect[2:]), 0)
-                    found = [told_of(scripts, (name, x, y)) for x, y in sorted(points_of(rect))]
+                self.assertGreater(min(min(rect[2:]) for rect in rects), 0)
+                for group in groups:
+                    self.assertGreater(len(group), 0)
+                    found = [told_of(scripts, (name, x, y)) for rect in group for x, y in sorted(points_of(rect))]
                     self.assertEqual(found, found[:1] * len(found))
-            return rects
 
     def test_one_script(self):
         source = random.Random(1)
