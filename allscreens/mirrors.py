@@ -63,15 +63,25 @@ class Mirror:
         return (columns[0], rows[0], columns[1], rows[1])
 
     def __eq__(self, other):
-        if not isinstance(other, Mirror):
-            return False
-        moves_alike = self.x == other.x and self.y == other.y
-        return moves_alike and self.across == other.across and self.down == other.down
+        return isinstance(other, Mirror) and numbers_of(self) == numbers_of(other)
 
     def __repr__(self):
-        across = ", across" if self.across else ""
-        down = ", down" if self.down else ""
-        return f"Mirror({self.x}, {self.y}{across}{down})"
+        return f"Mirror({spelled(self)})"
+
+
+def numbers_of(mirror):
+    """Return all that tells a map from others."""
+    return (mirror.x, mirror.y, mirror.across, mirror.down)
+
+
+def spelled(mirror):
+    """Return what stands in the brackets of a map's repr."""
+    words = [str(mirror.x), str(mirror.y)]
+    if mirror.across:
+        words.append("across")
+    if mirror.down:
+        words.append("down")
+    return ", ".join(words)
 
 
 def meeting(one, other, start, length):
