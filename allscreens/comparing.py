@@ -1,9 +1,9 @@
 """Comparing scripts by what they do to all pictures."""
 
-from allscreens.even import even_lists, first_cell, rects_to_compare
+from allscreens.differences import unlike_cell
 from allscreens.nodes import Nodes
 from allscreens.scripts import check_script
-from allscreens.stages import check_same_stage, whole
+from allscreens.stages import check_same_stage
 from allscreens.ways import number_at_end
 
 
@@ -55,28 +55,6 @@ def check_scripts(one, other):
     check_script(one)
     check_script(other)
     check_same_stage(one.stage, other.stage)
-
-
-def unlike_cell(stage, strokes, other_strokes):
-    """Return a cell to which two tuples of strokes give different reduced forms, None if there is none."""
-    nodes = Nodes()
-    for surface, _, _ in stage:
-        for rect in rects_to_compare(whole(stage, surface), surface, strokes, other_strokes):
-            cell = unlike_cell_in(nodes, rect, surface, strokes, other_strokes)
-            if cell is not None:
-                return cell
-    return None
-
-
-def unlike_cell_in(nodes, rect, surface, strokes, other_strokes):
-    """Return a cell in a rectangle of a surface to which two tuples of strokes give different forms, or None."""
-    for rects in even_lists(rect, surface, [strokes, other_strokes]):
-        cell = first_cell(surface, rects)
-        names = {}
-        number = number_at_end(nodes, strokes, cell, names)
-        if number != number_at_end(nodes, other_strokes, cell, names):
-            return cell
-    return None
 
 
 def telling_cells(nodes, number, other_number):

@@ -4,7 +4,7 @@ from allscreens.even import even_lists, first_cell
 from allscreens.nodes import Nodes
 from allscreens.painting import painted
 from allscreens.pictures import check_picture
-from allscreens.regions import Region
+from allscreens.regions import region_of_rects
 from allscreens.scripts import check_script
 from allscreens.stages import check_cell, check_same_stage, check_surface, whole
 from allscreens.ways import number_at_end
@@ -49,8 +49,3 @@ class Effect:
 
     def __repr__(self):
         return f"Effect({len(self._stage)} surfaces)"
-
-
-def region_of_rects(rects):
-    """Return the region of the points of a list of rectangles."""
-    return Region(*rects)

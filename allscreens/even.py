@@ -119,18 +119,23 @@ def parted_by_meetings(ways, rects, everything):
     return lists
 
 
-def even_lists(everything, name, scripts):
-    """Return lists of rectangles that have, all together, each point of a rectangle of a surface once.
+def even_groups(everything, name, scripts):
+    """Return groups whose rectangles have, all together, each point of a rectangle of a surface once.
 
-    Each rectangle is even for each of the scripts, which are tuples of strokes. Also any two ways, whichever of the
-    scripts they go through, stand at the same cell of the beginning for all cells of a list or at different ones for
-    all of them. So all cells of a list have the same forms, but for the cells in these.
+    Each rectangle is even for each of the scripts, which are tuples of strokes. Also any two ways of a group, whichever
+    of the scripts they go through, stand at the same cell of the beginning for all cells of the group or at different
+    ones for all of them. So all cells of a group have the same forms, but for the cells in these.
     """
     return [
-        rects
+        (ways, rects)
         for ways, found in groups_behind_all(everything, name, scripts)
         for rects in parted_by_meetings(ways, found, everything)
     ]
+
+
+def even_lists(everything, name, scripts):
+    """Return the lists of rectangles of the groups, without their ways."""
+    return [rects for _, rects in even_groups(everything, name, scripts)]
 
 
 def first_cell(name, rects):

@@ -43,8 +43,7 @@ class Picture:
     def areas(self, surface):
         """Return the ascending tuple of the pairs (colour, region of the cells with this colour) of a surface."""
         check_surface(self._stage, surface)
-        areas = areas_of(self._sheets[surface])
-        return tuple([(colour, region_of(bands)) for colour, bands in areas.items()])
+        return coloured_regions(self._sheets[surface])
 
     def patched(self, *patches):
         """Return the picture with these patches on it."""
@@ -67,6 +66,11 @@ class Picture:
 
     def __repr__(self):
         return f"Picture({len(self._stage)} surfaces)"
+
+
+def coloured_regions(sheet):
+    """Return the ascending tuple of the pairs (colour, region of the cells with this colour) of a sheet."""
+    return tuple([(colour, region_of(found)) for colour, found in areas_of(sheet).items()])
 
 
 def check_picture(value):

@@ -64,3 +64,8 @@ def region_of(bands):
     region = Region()
     region._bands = bands
     return region
+
+
+def region_of_rects(rects):
+    """Return the region of the points of a list of rectangles."""
+    return Region(*rects)

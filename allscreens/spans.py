@@ -31,8 +31,8 @@ def mixed_spans(first, second, wanted):
     return tuple(spans)
 
 
-def spans_between(bands, bounds):
-    """Return the spans of the rows between each of the bounds and the next one.
+def spans_between(bands, bounds, missing=()):
+    """Return the spans of the rows between each of the bounds and the next one, or what stands for missing ones.
 
     The bounds are ascending, and the tops and bottoms of the bands are among them.
     """
@@ -44,7 +44,7 @@ def spans_between(bands, bounds):
         if at < len(bands) and bands[at][0] <= bound:
             found.append(bands[at][2])
         else:
-            found.append(())
+            found.append(missing)
     return found
 
 

@@ -117,3 +117,13 @@ def source_of(stroke, cell):
     _, x, y = cell
     back = back_of(stroke)
     return (stroke[1], *back(x, y))
+
+
+def has_key(stroke):
+    """Tell if a stroke is a "copy" with a KEY."""
+    return stroke[0] == "copy" and stroke[7] is not None
+
+
+def has_keys(strokes):
+    """Tell if one of the strokes is a "copy" with a KEY."""
+    return any([has_key(stroke) for stroke in strokes])

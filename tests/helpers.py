@@ -4,6 +4,8 @@ import contextlib
 import doctest
 import io
 
+from allscreens.regions import Region
+
 BOUND = 10 ** 12
 
 
@@ -121,3 +123,7 @@ NOT_STAGES = ODD_VALUES + (
 def points_of(rect):
     x, y, width, height = rect
     return {(x + i, y + j) for i in range(width) for j in range(height)}
+
+
+def region_of_points(points):
+    return Region(*[(x, y, 1, 1) for x, y in points])
