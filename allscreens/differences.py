@@ -34,3 +34,9 @@ def unlike_region(stage, surface, strokes, other_strokes):
         for rects in unlike_lists(stage, surface, strokes, other_strokes)
         for rect in rects
     ])
+
+
+def changes_between(stage, strokes, other_strokes):
+    """Return pairs (name, region) of the cells at which two tuples of strokes differ, for surfaces with such cells."""
+    found = [(name, unlike_region(stage, name, strokes, other_strokes)) for name, _, _ in stage]
+    return tuple([(name, region) for name, region in found if len(region) > 0])

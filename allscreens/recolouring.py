@@ -48,9 +48,19 @@ def keeps_apart(*tables):
     """Tell if any two different colours are turned into different ones by at least one of the tables."""
     for table in tables:
         check_pairs(table)
+    return joined_colours(tables) is None
+
+
+def joined_colours(tables):
+    """Return two different colours that each of some tables turns into the same one, None if there are none."""
     if not tables:
-        return False
+        return (0, 1)
     turns = [dict(table) for table in tables]
     # A colour that no table names stays what it is in each of them, and nothing else becomes this colour.
-    named = sorted({colour for table in tables for pair in table for colour in pair})
-    return len({tuple([turn.get(colour, colour) for turn in turns]) for colour in named}) == len(named)
+    first = {}
+    for colour in sorted({each for table in tables for pair in table for each in pair}):
+        turned = tuple([turn.get(colour, colour) for turn in turns])
+        if turned in first:
+            return (first[turned], colour)
+        first[turned] = colour
+    return None

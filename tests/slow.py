@@ -220,3 +220,36 @@ def some_orders(source, stage, many, depth=0, words=("fill", "recolour", "copy")
             orders.append(order)
         if in_limits(stage, tuple(orders)):
             return tuple(orders)
+
+
+def rect_on(source, width, height):
+    """A rectangle that has cells of a surface of this size, perhaps with points beside it."""
+    x, y = source.randint(-1, width - 1), source.randint(-1, height - 1)
+    return (x, y, source.randint(1 - min(x, 0), width + 1), source.randint(1 - min(y, 0), height + 1))
+
+
+def tight_order(source, stage, words=("fill", "recolour", "copy"), keys=(None, 0, 1)):
+    """A plain order that names no colours but 0 and 1, and mostly does something on a very small stage."""
+    word, (name, width, height) = source.choice(words), source.choice(stage)
+    rect = rect_on(source, width, height)
+    if word == "fill":
+        return ("fill", name, rect, source.randint(0, 1))
+    if word == "recolour":
+        pairs = ((0, 1),), ((1, 0),), ((0, 1), (1, 0)), ((0, 0), (1, 0)), ((0, 1), (1, 1)), ((1, 1),), ()
+        return ("recolour", name, rect, source.choice(pairs))
+    target, across, down = source.choice(stage)
+    x, y = source.randint(-1, across - 1), source.randint(-1, down - 1)
+    return ("copy", name, rect, target, x, y, source.choice(("none", "across", "down", "both")), source.choice(keys))
+
+
+def tight_orders(source, stage, many, depth=0, keys=(None, 0, 1), words=("fill", "recolour", "copy")):
+    """A tuple of so many of these orders within the limits, with some frames around them up to this depth."""
+    while True:
+        orders = []
+        for _ in range(many):
+            order = tight_order(source, stage, words, keys)
+            for _ in range(source.randint(0, depth)):
+                order = framed(source, (order,))
+            orders.append(order)
+        if in_limits(stage, tuple(orders)):
+            return tuple(orders)

@@ -31,26 +31,6 @@ ROW = (("a", 5, 1),)
 SMALL = (("a", 4, 2), ("b", 3, 3))
 
 
-def tiny_orders(source, stage, many, depth=0, keys=(None, 0, 1)):
-    """Orders that name no colours but 0 and 1."""
-    orders = slow.some_orders(source, stage, many, depth, keys=keys)
-    return with_few_colours(orders)
-
-
-def with_few_colours(orders):
-    found = []
-    for order in orders:
-        if order[0] == "fill":
-            found.append((*order[:3], order[3] % 2))
-        elif order[0] == "recolour":
-            found.append((*order[:3], tuple((old, new % 2) for old, new in order[3] if old < 2)))
-        elif order[0] == "copy":
-            found.append(order)
-        else:
-            found.append((*order[:-1], with_few_colours(order[-1])))
-    return tuple(found)
-
-
 class SmallTest(unittest.TestCase):
     def check(self, orders, stage=TINY, parts=()):
         """Check both regions of each surface beside all pictures."""
@@ -80,20 +60,20 @@ class SmallTest(unittest.TestCase):
         source = random.Random(1)
         for word in ("fill", "recolour", "copy"):
             for _ in range(25):
-                self.check(with_few_colours((slow.some_order(source, TINY, (word,)),)))
+                self.check((slow.tight_order(source, TINY, (word,)),))
 
     def test_many_orders(self):
         source = random.Random(2)
         for many in range(2, 7):
             for _ in range(12):
-                self.check(tiny_orders(source, TINY, many))
-                self.check(tiny_orders(source, ROW, many), ROW)
+                self.check(slow.tight_orders(source, TINY, many))
+                self.check(slow.tight_orders(source, ROW, many), ROW)
 
     def test_frames_and_parts(self):
         source = random.Random(3)
         for _ in range(40):
-            self.check(tiny_orders(source, TINY, 3, 4))
-        part = tiny_orders(source, TINY, 2, 1, (None,))
+            self.check(slow.tight_orders(source, TINY, 3, 4))
+        part = slow.tight_orders(source, TINY, 2, 1, (None,))
         self.check((("call", "p"), ("mirrored", 2, None, (("call", "p"),))), TINY, (("p", part),))
 
     def test_overlapping_and_mirrored_copies(self):
@@ -106,7 +86,7 @@ class SmallTest(unittest.TestCase):
         source = random.Random(4)
         for words in (("copy", "copy"), ("copy", "recolour", "copy"), ("recolour", "copy", "fill", "copy")):
             for _ in range(25):
-                self.check(with_few_colours(slow.some_order(source, ROW, (word,), (0, 1)) for word in words), ROW)
+                self.check(tuple(slow.tight_order(source, ROW, (word,), (0, 1)) for word in words), ROW)
 
     def test_what_changes_nothing(self):
         whole = (0, 0, 5, 1)
@@ -161,7 +141,7 @@ class LargeTest(unittest.TestCase):
         for _ in range(60):
             # Blocks that are mirrored onto themselves have middles: their cells are unlike others.
             orders = tuple(
-                order[:6] + ("none", order[7]) if order[0] == "copy" else order for order in tiny_orders(source, TINY, 5))
+                order[:6] + ("none", order[7]) if order[0] == "copy" else order for order in slow.tight_orders(source, TINY, 5))
             script, small = Script(great, slow.scaled_orders(orders)), Script(TINY, orders)
             for surface, _, _ in TINY:
                 for one in (damage, needs):

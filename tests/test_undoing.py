@@ -13,7 +13,6 @@ from allscreens.stages import is_cell
 from allscreens.undoing import barred, beginning, loss, restored
 from helpers import BOUND, NOT_SURFACES, ODD_VALUES, STAGE, check_raises, raised_by, region_of_points, run_example
 from slow_ends import OTHERS, Ends, points_on
-from test_damage import tiny_orders
 
 EXAMPLE = """
 >>> from allscreens.painting import paint
@@ -34,7 +33,7 @@ CELL = (("a", 1, 1), ("b", 2, 1))
 
 
 def keyless(source, stage, many, depth=0):
-    return tiny_orders(source, stage, many, depth, (None,))
+    return slow.tight_orders(source, stage, many, depth, (None,))
 
 
 def picture_of(cells, stage, colours):
