@@ -1,6 +1,6 @@
 """Certificates of what scripts do, for the checker."""
 
-from allscreens.comparing import check_scripts, parting, telling_cells
+from allscreens.comparing import parting, telling_cells
 from allscreens.even import even_lists
 from allscreens.links import linked_to, links_of
 from allscreens.nodes import Nodes
@@ -13,7 +13,6 @@ from allscreens.ways import number_at_end
 
 def certify_alike(one, other):
     """Return a claim "alike" or "unlike" about two scripts, and its certificate."""
-    check_scripts(one, other)
     found = parting(one, other)
     if found is not None:
         return (plain(("unlike", one.stage, one.strokes, other.strokes, *found)), None)

@@ -98,8 +98,7 @@ def most_direct(before, stroke):
 
 
 def more_direct(before, copy):
-    """Return a "copy" behind other strokes that takes its colours from where one of these took them, None without one.
-    """
+    """Return a stroke behind others as a "copy" from where one of these took what it reads, None if it can be none."""
     if not is_plain_copy(copy):
         return None
     writers = [at for at, stroke in enumerate(before) if touches(stroke, copy[1], copy[2])]

@@ -209,17 +209,22 @@ def in_limits(stage, orders, parts=()):
     return len(plain) <= 16 and len(copies) <= 4 and len(keyed) <= 2 and len(recolours) <= 4
 
 
-def some_orders(source, stage, many, depth=0, words=("fill", "recolour", "copy"), keys=(None, 0, 1)):
-    """A tuple of so many plain orders within the limits, with some frames around them up to this depth."""
+def orders_in_limits(source, stage, many, depth, make):
+    """A tuple of so many orders within the limits, with some frames around them up to this depth."""
     while True:
         orders = []
         for _ in range(many):
-            order = some_order(source, stage, words, keys)
+            order = make()
             for _ in range(source.randint(0, depth)):
                 order = framed(source, (order,))
             orders.append(order)
         if in_limits(stage, tuple(orders)):
             return tuple(orders)
+
+
+def some_orders(source, stage, many, depth=0, words=("fill", "recolour", "copy"), keys=(None, 0, 1)):
+    """Any orders, with frames around them up to this depth."""
+    return orders_in_limits(source, stage, many, depth, lambda: some_order(source, stage, words, keys))
 
 
 def rect_on(source, width, height):
@@ -243,13 +248,5 @@ def tight_order(source, stage, words=("fill", "recolour", "copy"), keys=(None, 0
 
 
 def tight_orders(source, stage, many, depth=0, keys=(None, 0, 1), words=("fill", "recolour", "copy")):
-    """A tuple of so many of these orders within the limits, with some frames around them up to this depth."""
-    while True:
-        orders = []
-        for _ in range(many):
-            order = tight_order(source, stage, words, keys)
-            for _ in range(source.randint(0, depth)):
-                order = framed(source, (order,))
-            orders.append(order)
-        if in_limits(stage, tuple(orders)):
-            return tuple(orders)
+    """Any of these orders, with frames around them up to this depth."""
+    return orders_in_limits(source, stage, many, depth, lambda: tight_order(source, stage, words, keys))

@@ -6,16 +6,15 @@ import slow
 from allscreens import board as board_module
 from allscreens.board import Board, GuardedBoard, NotedBoard, NotedGuardedBoard
 from allscreens.errors import (
-    Busy, DifferentStages, Guarded, InvalidEdit, InvalidNumber, InvalidOrder, InvalidRect, InvalidSurface, NotAPicture,
-    NothingToUndo, TooManyCopies, TooManyEdits, TooManyKeys, TooManyOrders, TooManyRecolours,
+    Busy, DifferentStages, Guarded, InvalidEdit, InvalidNumber, InvalidOrder, NotAPicture, NothingToUndo, TooManyCopies,
+    TooManyEdits, TooManyKeys, TooManyOrders, TooManyRecolours,
 )
 from allscreens.painting import paint
 from allscreens.pictures import Picture
 from allscreens.regions import Region
 from allscreens.scripts import Script
 from helpers import (
-    BOUND, NOT_INTEGERS, NOT_RECTS, NOT_SURFACES, ODD_VALUES, STAGE, check_raises, check_raises_equal, raised_by,
-    region_of_points, run_example,
+    BOUND, NOT_INTEGERS, ODD_VALUES, check_raises, check_raises_equal, raised_by, region_of_points, run_example,
 )
 from slow_ends import Ends, points_on
 
@@ -179,7 +178,7 @@ class EditsTest(unittest.TestCase):
             for board in boards:
                 board.do_all(tuple(("insert", at, order) for at, order in enumerate(orders)))
             later = behind(orders, edit)
-            for board, make in zip(boards, (board.do, by_method)):
+            for board in boards:
                 changes = board.do(edit) if board is boards[0] else by_method(board, edit)
                 self.check_changes(changes, TINY, orders, later)
                 self.check_board(board, Picture(TINY), later, board.log)

@@ -14,7 +14,9 @@ from allscreens.even import even_lists
 from allscreens.passes import without_idle
 from allscreens.pictures import Picture
 from allscreens.scripts import Script
-from helpers import BOUND, NOT_CELLS, NOT_COLOURS, NOT_RECTS, NOT_STAGES, NOT_SURFACES, ODD_VALUES, points_of
+from helpers import (
+    BOUND, NOT_CELLS, NOT_COLOURS, NOT_RECTS, NOT_STAGES, NOT_SURFACES, ODD_VALUES, STAGE, AlwaysEqual, points_of,
+)
 from slow_ends import Ends
 from test_comparing import some_pair
 
@@ -153,6 +155,21 @@ class AlikeTest(CheckerTest):
         self.check(True, ("alike", stage, one, other), (((0, 0, 5, 1),), thirds))
         self.check(True, ("alike", stage, one, other), (thirds, thirds))
         self.check(False, ("alike", stage, one, other), (thirds, ((0, 0, 5, 1),)))
+
+    def test_cells_that_are_asked_again(self):
+        # A cell that keeps its colour unless it is 7 shows a third one then, or 7 if that is 5: whether it is asked once
+        # more or known by then, in both orders of the cells.
+        for name, third in itertools.permutations("ac"):
+            stage = (("a", 1, 1), ("b", 1, 1), ("c", 1, 1))
+            kept = ("copy", name, (0, 0, 1, 1), "b", 0, 0, "none", None)
+            shows = ("copy", third, (0, 0, 1, 1), name, 0, 0, "none", 5)
+            again = ("copy", "b", (0, 0, 1, 1), name, 0, 0, "none", 7)
+            fill = ("fill", name, (0, 0, 1, 1), 7)
+            single = (((0, 0, 1, 1),),) * 3
+            self.check(True, ("alike", stage, (kept, shows, again), (kept, fill, shows, again)), single)
+            self.check(True, ("alike", stage, (kept, fill, shows, again), (kept, shows, again)), single)
+            other = ("fill", name, (0, 0, 1, 1), 8)
+            self.check(False, ("alike", stage, (kept, shows, again), (kept, other, shows, again)), single)
 
     def test_surfaces_more_and_less_and_in_another_order(self):
         claim = ("alike", SMALL, (FILL,), (FILL, FILL))
@@ -357,6 +374,14 @@ class LossTest(CheckerTest):
         self.check(False, lost[:4] + (1, True))
         self.check(True, lost[:4] + (10 ** 9, 0))
 
+    def test_what_is_no_cell(self):
+        for value in NOT_CELLS:
+            self.check(False, ("kept", STAGE, (), value))
+            self.check(False, ("lost", STAGE, (), value, 0, 1))
+            self.check(False, ("changes", STAGE, (("fill", "a", (0, 0, 3, 5), 1),), value, ()))
+        for value in (("a", 0, 0), ("a", 2, 4), ("ab", BOUND - 1, 0), ("b", BOUND - 1, BOUND - 1)):
+            self.check(True, ("kept", STAGE, (), value))
+
     def test_a_keyed_copy_that_is_hidden(self):
         hidden = (KEYED, ("fill", "a", (0, 0, 4, 2), 5))
         self.check(False, ("lost", SMALL, hidden, ("a", 1, 0), 0, 5))
@@ -426,6 +451,15 @@ class FormsTest(CheckerTest):
         for claim, certificate in CLAIMS:
             for value in NOT_STAGES:
                 self.check(False, claim[:1] + (value,) + claim[2:], certificate)
+        for value in NOT_STAGES:
+            self.check(False, ("alike", value, (), ()), whole_covers(value))
+            self.check(False, ("alike", value, (), ()), ())
+        self.check(False, ("alike", (("a", 0, 1),), (), ()), ((),))
+        self.check(False, ("alike", (("a", 1, 0),), (), ()), ((),))
+        for stage in (
+            (("a", 1, 1),), (("z", 2, 3),), (("az", 1, 1), ("b", BOUND, 1)), tuple((name, 1, 1) for name in "abcxyz"),
+        ):
+            self.check(True, ("alike", stage, (), ()), whole_covers(stage))
         one = (("a", 1, 1),)
         self.check(True, ("alike", one, (), ()), (((0, 0, 1, 1),),))
         for stage in ((("a", True, 1),), (("a", 1, True),)):
@@ -464,6 +498,8 @@ class FormsTest(CheckerTest):
             ("within", (0, 0, 4, 2), (FILL,)), ("moved", 0, 0, (FILL,)), ("mirrored", None, None, (FILL,)),
             ("repeat", 1, (FILL,)), ("call", "p"), ("repeat", 0, ()), ("within", (0, 0, 4, 2), ()),
             # What is no order at all.
+            (AlwaysEqual(),) + FILL[1:], (AlwaysEqual(),) + COPY[1:], COPY[:6] + (AlwaysEqual(), None),
+            FILL[:1] + (AlwaysEqual(),) + FILL[2:], COPY[:1] + (AlwaysEqual(),) + COPY[2:],
             FILL[:3], FILL + (1,), TURN[:3], TURN + ((),), COPY[:7], COPY + (None,), list(FILL), FILL[0], (), None, (FILL,),
             ("Fill",) + FILL[1:], (b"fill",) + FILL[1:], (None,) + FILL[1:], ("copy",) + FILL[1:], ("fill",) + COPY[1:],
             ("recolour",) + FILL[1:], ("fill",) + TURN[1:], ("recolour",) + COPY[1:],
@@ -546,6 +582,13 @@ class FormsTest(CheckerTest):
             before = repr((claim, certificate))
             self.assertEqual([accepts(claim, certificate) for _ in range(3)], [True] * 3)
             self.assertEqual(repr((claim, certificate)), before)
+
+
+def whole_covers(stage):
+    """A cover of each surface, for what may be no stage."""
+    if not isinstance(stage, tuple) or not all(isinstance(surface, tuple) and len(surface) == 3 for surface in stage):
+        return ()
+    return tuple(((0, 0, *surface[1:]),) for surface in stage)
 
 
 # Where another value of the right kind may stand without harm.

@@ -2,6 +2,7 @@
 
 import ast
 import builtins
+import functools
 import pathlib
 import unittest
 
@@ -24,10 +25,12 @@ RuntimeError NotImplementedError AttributeError StopIteration NotImplemented
 """.split())
 
 
+@functools.cache
 def texts():
     return {path.name: path.read_text(encoding="utf-8") for path in sorted(PACKAGE.glob("*.py"))}
 
 
+@functools.cache
 def trees():
     return {name: ast.parse(text) for name, text in texts().items()}
 
@@ -116,6 +119,54 @@ class LanguageTest(unittest.TestCase):
         }
         self.assertEqual(decorated & plain, set())
         self.assertEqual(decorated & attributes - setters, set())
+
+    def test_l6_finally(self):
+        allowed = (ast.Pass, ast.Assign, ast.AugAssign, ast.If)
+        for name, node in nodes(ast.Try):
+            for each in node.finalbody:
+                for inner in ast.walk(each):
+                    with self.subTest(file=name, line=each.lineno):
+                        self.assertFalse(isinstance(inner, ast.stmt) and not isinstance(inner, allowed))
+                        self.assertNotIsInstance(inner, (ast.Call, ast.Subscript, ast.BinOp, ast.Dict, ast.JoinedStr))
+
+    def test_l12_l17_names(self):
+        barred = {
+            "register", "mro", "elements", "open", "input", "law", "version_info", "with_traceback", "add_note", "typing",
+            "enum", "namedtuple", "dataclass", "abstractmethod", "exit", "help", "id", "vars", "dir", "eval", "exec",
+        }
+        words = [(name, node.id) for name, node in nodes(ast.Name)] + [(name, node.attr) for name, node in nodes(ast.Attribute)]
+        words += [(name, node.arg) for name, node in nodes(ast.arg, ast.keyword)]
+        words += [(name, node.name) for name, node in nodes(ast.FunctionDef, ast.ClassDef)]
+        for name, word in words:
+            self.assertNotIn(word, barred, name)
+            if word is not None and not word.endswith("__"):
+                self.assertFalse(word.startswith(("__", "_wall", "_law")), (name, word))
+
+    def test_l8_l17_kinds_are_asked_in_one_way(self):
+        kinds = {"int", "str", "tuple"}
+        for name, node in nodes(ast.Name):
+            if node.id == "type":
+                self.assertEqual(name, "checked_values.py")
+        for name, tree in trees().items():
+            asked = [node for node in ast.walk(tree) if isinstance(node, ast.Compare) and isinstance(node.left, ast.Call)
+                     and isinstance(node.left.func, ast.Name) and node.left.func.id == "type"]
+            for node in asked:
+                self.assertIsInstance(node.ops[0], ast.Eq)
+                self.assertIn(node.comparators[0].id, kinds)
+            calls = [node for node in ast.walk(tree) if isinstance(node, ast.Name) and node.id == "type"]
+            self.assertEqual(len(calls), len(asked), name)
+
+    def test_l23_calls_of_generators_are_iterated_at_once(self):
+        generators = {
+            node.name for _, node in nodes(ast.FunctionDef)
+            if any(isinstance(each, (ast.Yield, ast.YieldFrom)) for each in ast.walk(node))
+        }
+        iterated = {
+            (name, node.iter.lineno, node.iter.col_offset) for name, node in nodes(ast.For, ast.comprehension)}
+        for name, node in nodes(ast.Call):
+            if isinstance(node.func, ast.Name) and node.func.id in generators:
+                self.assertIn((name, node.lineno, node.col_offset), iterated)
+        self.assertEqual(generators, {"bands", "unlike_lists"})
 
     def test_l20_is(self):
         for name, node in nodes(ast.Compare):

@@ -299,13 +299,38 @@ class CopiesTest(unittest.TestCase):
                    ("copy", "a", (1, 0, 2, 1), "a", 4, 0, "none", None))
         self.check((shifted, ("copy", "a", (1, 0, 1, 1), "a", 4, 0, "none", None)),
                    ("copy", "a", (0, 0, 1, 1), "a", 4, 0, "none", None))
+
+    def test_many_copies(self):
         source = random.Random(4)
-        for _ in range(200):
-            orders = slow.some_orders(source, ROW, 4, 0, ("copy", "copy", "fill"), (None, None, 1))
-            script = Script(ROW, orders)
-            found = copies_direct(script)
-            self.assertEqual(found.strokes, slowly_direct(ROW, script.strokes))
-            self.assertIs(alike(found, script), True)
+        stage = tuple((name, 4, 1) for name in "abc")
+        changed = 0
+        for _ in range(1500):
+            orders = []
+            for _ in range(4):
+                one, other = source.choice("abc"), source.choice("abc")
+                rect = (source.randint(0, 2), 0, source.choice((1, 1, 2, 3)), 1)
+                key = source.choice((None,) * 8 + (1,))
+                orders.append(("copy", one, rect, other, source.randint(0, 2), 0, source.choice(MIRRORS), key))
+            orders.insert(source.randrange(5), ("fill", source.choice("abc"), (source.randrange(4), 0, 1, 1), 5))
+            if slow.in_limits(stage, orders):
+                script = Script(stage, tuple(orders))
+                found = copies_direct(script)
+                self.assertEqual(found.strokes, slowly_direct(stage, script.strokes))
+                changed += found.strokes != script.strokes
+                if found.strokes != script.strokes:
+                    self.assertIs(alike(found, script), True)
+        self.assertGreater(changed, 300)
+
+    def test_several_that_write_the_source(self):
+        stage = tuple((name, 4, 1) for name in "abcd")
+        one, two, last = [
+            ("copy", source, (0, 0, 2, 1), target, 0, 0, "none", None) for source, target in ("ac", "bc", "cd")]
+        self.check((one, two, last), ("copy", "b") + last[2:], stage)
+        for first in (("fill", "c", (0, 0, 1, 1), 5), one[:7] + (5,), ("recolour", "c", (0, 0, 4, 1), ())):
+            self.check((first, two, last), ("copy", "b") + last[2:], stage)
+            self.check((two, first, last), last, stage)
+        # What stood there before does not matter, nor what was done then to that from which it is taken.
+        self.check((one, ("fill", "b", (0, 0, 1, 1), 5), two, last), ("copy", "b") + last[2:], stage)
 
     def test_the_copy_before_as_it_is_by_then(self):
         stage = tuple((name, 4, 1) for name in "abcd")

@@ -1,9 +1,9 @@
-import itertools
 import random
 import unittest
 
 import slow
 from allscreens import undoing
+from allscreens.colours import is_colour
 from allscreens.errors import DifferentStages, InvalidSurface, NoBeginning, NotAPicture, NotAScript, UsesKeys
 from allscreens.painting import paint
 from allscreens.pictures import Picture
@@ -227,6 +227,7 @@ class BeginningTest(unittest.TestCase):
             if first is not None:
                 self.assertIs(type(first), Picture)
                 self.assertEqual(paint(script, first), end)
+                self.assertTrue(all(is_colour(first[cell]) for cell in ends.cells))
                 self.assertEqual(beginning(end=end, script=script), first)
             else:
                 self.check_barred(ends, reached, colours, cells)
