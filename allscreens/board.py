@@ -138,7 +138,7 @@ class Board:
         return len(self._script.orders)
 
     def __repr__(self):
-        return f"{self.__class__.__name__}({len(self._script.orders)} orders)"
+        return f"{kind_of(self)}({len(self._script.orders)} orders)"
 
     def _check_free(self):
         """Raise Busy while the board is at work."""
@@ -238,3 +238,8 @@ class GuardedBoard(Board):
 
 class NotedGuardedBoard(NotedBoard, GuardedBoard):
     """A board that keeps notes and bars what can change guarded cells."""
+
+
+def kind_of(board):
+    """Return the name of the class of a board."""
+    return board.__class__.__name__
